@@ -1,0 +1,160 @@
+package nat_test
+
+import (
+	"slices"
+	"testing"
+
+	"plumb/api"
+	"plumb/nat"
+)
+
+// ok gives the answer of a call that must not fail.
+func ok(t *testing.T) func(x list, e api.Errno) list {
+	return func(x list, e api.Errno) list {
+		t.Helper()
+		if e != api.OK {
+			t.Errorf("error %d", e)
+		}
+		return x
+	}
+}
+
+// P2.10: sums and products in any order, and put together as one likes.
+func TestAnyOrder(t *testing.T) {
+	all := samples()
+	must := ok(t)
+	for i, x := range all {
+		for j, y := range all {
+			z := all[(i*7+j*3)%len(all)]
+			sum, product := must(nat.Add(x, y)), must(nat.Mul(x, y))
+			for _, pair := range [][2]list{
+				{sum, must(nat.Add(y, x))},
+				{product, must(nat.Mul(y, x))},
+				{must(nat.Add(sum, z)), must(nat.Add(x, must(nat.Add(y, z))))},
+				{must(nat.Mul(product, z)), must(nat.Mul(x, must(nat.Mul(y, z))))},
+				{must(nat.Mul(sum, z)), must(nat.Add(must(nat.Mul(x, z)), must(nat.Mul(y, z))))},
+				{must(nat.Add(sum, z)), must(nat.Sum(z, y, x))},
+				{must(nat.Sub(sum, y)), nat.Norm(x)},
+			} {
+				if !slices.Equal(pair[0], pair[1]) {
+					t.Errorf("of %x, %x, %x: %x and %x", x, y, z, pair[0], pair[1])
+				}
+			}
+		}
+	}
+}
+
+// P2.10: Shr takes back Shl, and Shl is a product by a power of two.
+func TestShiftsTakeBack(t *testing.T) {
+	must := ok(t)
+	for _, x := range samples() {
+		for _, n := range shifts() {
+			up := must(nat.Shl(x, n))
+			back, lost, e := nat.Shr(up, n)
+			if e != api.OK || lost || !slices.Equal(back, nat.Norm(x)) {
+				t.Errorf("Shl(%x, %d) = %x, but Shr gives %x, %v, %d", x, n, up, back, lost, e)
+			}
+			if by := must(nat.Mul(x, must(nat.Shl(list{1}, n)))); !slices.Equal(up, by) {
+				t.Errorf("Shl(%x, %d) = %x, but the product is %x", x, n, up, by)
+			}
+		}
+	}
+}
+
+// P2.10: Cmp tells just whether Sub is below, 0, or above.
+func TestCmpTellsSub(t *testing.T) {
+	for _, x := range samples() {
+		for _, y := range samples() {
+			rest, e := nat.Sub(x, y)
+			want := 0
+			if e == api.ErrBelow {
+				want = -1
+			} else if len(rest) != 0 {
+				want = 1
+			}
+			if got := nat.Cmp(x, y); got != want {
+				t.Errorf("Cmp(%x, %x) = %d, but Sub gives %x, %d", x, y, got, rest, e)
+			}
+		}
+	}
+}
+
+// answers are all lists that calls answer for these arguments.
+func answers(x, y list, n int) []list {
+	out := []list{nat.Norm(x), nat.From(uint64(n))}
+	for _, f := range []func(list, list) (list, api.Errno){nat.Add, nat.Sub, nat.Mul} {
+		l, _ := f(x, y)
+		out = append(out, l)
+	}
+	up, _ := nat.Shl(x, n)
+	down, _, _ := nat.Shr(x, n)
+	one, _ := nat.Sum(x)
+	three, _ := nat.Sum(x, y, x)
+	return append(out, up, down, one, three)
+}
+
+// copied gives the lists in memory of their own.
+func copied(xs []list) []list {
+	var out []list
+	for _, x := range xs {
+		out = append(out, slices.Clone(x))
+	}
+	return out
+}
+
+// spoil writes over a list and its spare room.
+func spoil(x list) {
+	whole := x[:cap(x)]
+	for i := range whole {
+		whole[i] = 0xdead
+	}
+}
+
+// P2.9, P0.1, P0.2: what is handed in stays as it is with its spare room, and what is done to an answer is seen nowhere else.
+func TestMemory(t *testing.T) {
+	const mark = 0x1234
+	for _, first := range samples() {
+		for _, second := range samples() {
+			for _, n := range []int{0, 1, 64, 65} {
+				room := slices.Concat(first, list{mark, mark})
+				x := room[:len(first)]
+				roomY := slices.Concat(second, list{mark, mark})
+				y := roomY[:len(second)]
+				got := answers(x, y, n)
+				want := copied(got)
+				for i, l := range got {
+					spoil(l)
+					for j := i + 1; j < len(got); j++ {
+						if !slices.Equal(got[j], want[j]) {
+							t.Fatalf("of %x, %x, %d: answers %d and %d share memory", first, second, n, i, j)
+						}
+					}
+				}
+				if !slices.Equal(room, slices.Concat(first, list{mark, mark})) || !slices.Equal(roomY, slices.Concat(second, list{mark, mark})) {
+					t.Fatalf("what was handed in, %x and %x, is now %x and %x", first, second, room, roomY)
+				}
+				for i, l := range answers(x, y, n) {
+					if !slices.Equal(l, want[i]) {
+						t.Fatalf("of %x, %x, %d: first %x, then %x", first, second, n, want[i], l)
+					}
+				}
+			}
+		}
+	}
+}
+
+// P2.9: one list handed in twice.
+func TestOneListTwice(t *testing.T) {
+	for _, first := range samples() {
+		x := slices.Clone(first)
+		for i, l := range answers(x, x, 3) {
+			if want := answers(slices.Clone(first), slices.Clone(first), 3)[i]; !slices.Equal(l, want) {
+				t.Errorf("of %x twice: %x, of two like it %x", first, l, want)
+			}
+			spoil(l)
+		}
+		if !slices.Equal(x, first) {
+			t.Errorf("handed in twice, %x is now %x", first, x)
+		}
+	}
+}
