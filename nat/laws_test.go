@@ -6,6 +6,7 @@ import (
 
 	"plumb/api"
 	"plumb/nat"
+	"plumb/sample"
 )
 
 // ok gives the answer of a call that must not fail.
@@ -21,7 +22,7 @@ func ok(t *testing.T) func(x list, e api.Errno) list {
 
 // P2.10: sums and products in any order, and put together as one likes.
 func TestAnyOrder(t *testing.T) {
-	all := samples()
+	all := sample.Lists()
 	must := ok(t)
 	for i, x := range all {
 		for j, y := range all {
@@ -47,7 +48,7 @@ func TestAnyOrder(t *testing.T) {
 // P2.10: Shr takes back Shl, and Shl is a product by a power of two.
 func TestShiftsTakeBack(t *testing.T) {
 	must := ok(t)
-	for _, x := range samples() {
+	for _, x := range sample.Lists() {
 		for _, n := range shifts() {
 			up := must(nat.Shl(x, n))
 			back, lost, e := nat.Shr(up, n)
@@ -63,8 +64,8 @@ func TestShiftsTakeBack(t *testing.T) {
 
 // P2.10: Cmp tells just whether Sub is below, 0, or above.
 func TestCmpTellsSub(t *testing.T) {
-	for _, x := range samples() {
-		for _, y := range samples() {
+	for _, x := range sample.Lists() {
+		for _, y := range sample.Lists() {
 			rest, e := nat.Sub(x, y)
 			want := 0
 			if e == api.ErrBelow {
@@ -93,50 +94,14 @@ func answers(x, y list, n int) []list {
 	return append(out, up, down, one, three)
 }
 
-// copied gives the lists in memory of their own.
-func copied(xs []list) []list {
-	var out []list
-	for _, x := range xs {
-		out = append(out, slices.Clone(x))
-	}
-	return out
-}
-
-// spoil writes over a list and its spare room.
-func spoil(x list) {
-	whole := x[:cap(x)]
-	for i := range whole {
-		whole[i] = 0xdead
-	}
-}
-
 // P2.9, P0.1, P0.2: what is handed in stays as it is with its spare room, and what is done to an answer is seen nowhere else.
 func TestMemory(t *testing.T) {
-	const mark = 0x1234
-	for _, first := range samples() {
-		for _, second := range samples() {
+	for _, x := range sample.Lists() {
+		for _, y := range sample.Lists() {
 			for _, n := range []int{0, 1, 64, 65} {
-				room := slices.Concat(first, list{mark, mark})
-				x := room[:len(first)]
-				roomY := slices.Concat(second, list{mark, mark})
-				y := roomY[:len(second)]
-				got := answers(x, y, n)
-				want := copied(got)
-				for i, l := range got {
-					spoil(l)
-					for j := i + 1; j < len(got); j++ {
-						if !slices.Equal(got[j], want[j]) {
-							t.Fatalf("of %x, %x, %d: answers %d and %d share memory", first, second, n, i, j)
-						}
-					}
-				}
-				if !slices.Equal(room, slices.Concat(first, list{mark, mark})) || !slices.Equal(roomY, slices.Concat(second, list{mark, mark})) {
-					t.Fatalf("what was handed in, %x and %x, is now %x and %x", first, second, room, roomY)
-				}
-				for i, l := range answers(x, y, n) {
-					if !slices.Equal(l, want[i]) {
-						t.Fatalf("of %x, %x, %d: first %x, then %x", first, second, n, want[i], l)
-					}
+				calls := func(in []list) []list { return answers(in[0], in[1], n) }
+				if fault := sample.Memory(calls, x, y); fault != "" {
+					t.Fatalf("of %x, %x, %d: %s", x, y, n, fault)
 				}
 			}
 		}
@@ -145,13 +110,13 @@ func TestMemory(t *testing.T) {
 
 // P2.9: one list handed in twice.
 func TestOneListTwice(t *testing.T) {
-	for _, first := range samples() {
+	for _, first := range sample.Lists() {
 		x := slices.Clone(first)
 		for i, l := range answers(x, x, 3) {
 			if want := answers(slices.Clone(first), slices.Clone(first), 3)[i]; !slices.Equal(l, want) {
 				t.Errorf("of %x twice: %x, of two like it %x", first, l, want)
 			}
-			spoil(l)
+			sample.Spoil(l)
 		}
 		if !slices.Equal(x, first) {
 			t.Errorf("handed in twice, %x is now %x", first, x)

@@ -8,6 +8,7 @@ import (
 
 	"plumb/api"
 	"plumb/nat"
+	"plumb/sample"
 )
 
 const (
@@ -17,65 +18,9 @@ const (
 
 type list = []uint64
 
-// of gives so many words, each w.
-func of(n int, w uint64) list {
-	return slices.Repeat(list{w}, n)
-}
-
-// with gives the words of x and more behind them, in memory of their own.
-func with(x list, more ...uint64) list {
-	return slices.Concat(x, more)
-}
-
-// samples are lists at which a carry, a length or a word 0 would show, and lists from a fixed rule.
-func samples() []list {
-	out := []list{
-		nil, {0}, {0, 0}, {1}, {1, 0}, {2}, {3}, {5, 0, 0}, {m}, {m, 0}, {m - 1}, {top}, {top - 1}, {top + 1},
-		{0, 1}, {0, 1, 0}, {1, 1}, {m, m}, {m, 1}, {0, m}, {0, top}, {top, top}, {1, 2}, {2, 1},
-		{0, 0, 1}, {m, m, m}, {1, 0, m}, {0, 0, 0, 8}, {m, 0, 0, m, 0, 0},
-	}
-	x := uint64(0x9e3779b97f4a7c15)
-	for n := range 12 {
-		l := make(list, n)
-		for i := range l {
-			x ^= x << 13
-			x ^= x >> 7
-			x ^= x << 17
-			l[i] = x >> (x % 5 * 8)
-		}
-		out = append(out, l)
-	}
-	return out
-}
-
 // shifts are distances at which a word or a list ends.
 func shifts() []int {
 	return []int{0, 1, 2, 7, 31, 32, 63, 64, 65, 100, 127, 128, 129, 191, 192, 193, 640, 703, 704, 705, 1000}
-}
-
-// number is the number of a list.
-func number(x list) *big.Int {
-	out := new(big.Int)
-	for _, w := range slices.Backward(x) {
-		out.Lsh(out, 64)
-		out.Or(out, new(big.Int).SetUint64(w))
-	}
-	return out
-}
-
-// words is a number as a normal list.
-func words(x *big.Int) list {
-	var out list
-	low := new(big.Int).SetUint64(m)
-	for rest := new(big.Int).Set(x); rest.Sign() != 0; rest.Rsh(rest, 64) {
-		out = append(out, new(big.Int).And(rest, low).Uint64())
-	}
-	return out
-}
-
-// holds tells whether a call answered that number, in its normal form.
-func holds(got list, want *big.Int) bool {
-	return slices.Equal(got, words(want))
 }
 
 // is checks an answer of one list.
@@ -116,13 +61,13 @@ func TestNorm(t *testing.T) {
 			t.Errorf("Norm(%x) = %x, want %x", c.x, got, c.want)
 		}
 	}
-	for _, x := range samples() {
-		if got := nat.Norm(x); !holds(got, number(x)) {
+	for _, x := range sample.Lists() {
+		if got := nat.Norm(x); !sample.Is(got, sample.Number(x)) {
 			t.Errorf("Norm(%x) = %x", x, got)
 		}
 	}
 	for _, n := range []int{4096, 4097, 70000} {
-		x := with(of(n, m), 0, 0)
+		x := sample.With(sample.Of(n, m), 0, 0)
 		if got := nat.Norm(x); !slices.Equal(got, x[:n]) {
 			t.Errorf("Norm of %d words: %d words", n, len(got))
 		}
@@ -136,7 +81,7 @@ func TestFromAndWord(t *testing.T) {
 	}
 	for _, v := range []uint64{0, 1, top, m} {
 		x := nat.From(v)
-		if !holds(x, new(big.Int).SetUint64(v)) {
+		if !sample.Is(x, new(big.Int).SetUint64(v)) {
 			t.Errorf("From(%x) = %x", v, x)
 		}
 		if got, ok := nat.Word(x); got != v || !ok {
@@ -165,15 +110,15 @@ func TestFromAndWord(t *testing.T) {
 
 // P2.2
 func TestCmp(t *testing.T) {
-	for _, x := range samples() {
-		for _, y := range samples() {
-			if got, want := nat.Cmp(x, y), number(x).Cmp(number(y)); got != want {
+	for _, x := range sample.Lists() {
+		for _, y := range sample.Lists() {
+			if got, want := nat.Cmp(x, y), sample.Number(x).Cmp(sample.Number(y)); got != want {
 				t.Errorf("Cmp(%x, %x) = %d, want %d", x, y, got, want)
 			}
 		}
 	}
-	x, over := of(4096, m), with(of(4096, m), 1)
-	if nat.Cmp(over, x) != 1 || nat.Cmp(x, over) != -1 || nat.Cmp(over, with(over, 0)) != 0 {
+	x, over := sample.Of(4096, m), sample.With(sample.Of(4096, m), 1)
+	if nat.Cmp(over, x) != 1 || nat.Cmp(x, over) != -1 || nat.Cmp(over, sample.With(over, 0)) != 0 {
 		t.Errorf("Cmp of lists beyond MaxLimbs: %d, %d", nat.Cmp(over, x), nat.Cmp(x, over))
 	}
 }
@@ -190,10 +135,10 @@ func TestAdd(t *testing.T) {
 		got, e := nat.Add(c.x, c.y)
 		is(t, "Add", got, e, c.want, api.OK)
 	}
-	for _, x := range samples() {
-		for _, y := range samples() {
+	for _, x := range sample.Lists() {
+		for _, y := range sample.Lists() {
 			got, e := nat.Add(x, y)
-			if e != api.OK || !holds(got, new(big.Int).Add(number(x), number(y))) {
+			if e != api.OK || !sample.Is(got, new(big.Int).Add(sample.Number(x), sample.Number(y))) {
 				t.Errorf("Add(%x, %x) = %x, %d", x, y, got, e)
 			}
 		}
@@ -202,18 +147,18 @@ func TestAdd(t *testing.T) {
 
 // P2.3
 func TestAddHuge(t *testing.T) {
-	x := of(4096, m)
+	x := sample.Of(4096, m)
 	got, e := nat.Add(x, list{1})
 	huge(t, "Add(x, 1)", got, e)
 	got, e = nat.Add(list{1}, x)
 	huge(t, "Add(1, x)", got, e)
 	got, e = nat.Add(x, x)
 	huge(t, "Add(x, x)", got, e)
-	got, e = nat.Add(with(x, 1), nil)
+	got, e = nat.Add(sample.With(x, 1), nil)
 	huge(t, "Add(4097 words, 0)", got, e)
-	got, e = nat.Add(with(x, 0, 0), list{0, 0})
+	got, e = nat.Add(sample.With(x, 0, 0), list{0, 0})
 	fits(t, "Add(x and words 0, 0)", got, e, x)
-	got, e = nat.Add(with(list{m - 1}, x[1:]...), list{1})
+	got, e = nat.Add(sample.With(list{m - 1}, x[1:]...), list{1})
 	fits(t, "Add(x - 1, 1)", got, e, x)
 }
 
@@ -226,9 +171,9 @@ func TestSum(t *testing.T) {
 	got, e = nat.Sum(list{1}, list{2}, list{m})
 	is(t, "Sum(1, 2, m)", got, e, list{2, 1}, api.OK)
 	want := new(big.Int)
-	for i, x := range samples() {
-		want.Add(want, number(x))
-		if got, e := nat.Sum(samples()[:i+1]...); e != api.OK || !holds(got, want) {
+	for i, x := range sample.Lists() {
+		want.Add(want, sample.Number(x))
+		if got, e := nat.Sum(sample.Lists()[:i+1]...); e != api.OK || !sample.Is(got, want) {
 			t.Errorf("Sum of %d lists = %x, %d", i+1, got, e)
 		}
 	}
@@ -239,15 +184,15 @@ func TestSum(t *testing.T) {
 
 // P2.3
 func TestSumHuge(t *testing.T) {
-	x := of(4096, m)
-	less := with(list{m - 2}, x[1:]...)
-	for i, xs := range [][]list{{x, {1}}, {{1}, x}, {less, {1}, {1}, {1}}, {x, x, x}, {nil, with(x, 1)}, {with(of(5000, 0), 1)}} {
+	x := sample.Of(4096, m)
+	less := sample.With(list{m - 2}, x[1:]...)
+	for i, xs := range [][]list{{x, {1}}, {{1}, x}, {less, {1}, {1}, {1}}, {x, x, x}, {nil, sample.With(x, 1)}, {sample.With(sample.Of(5000, 0), 1)}} {
 		got, e := nat.Sum(xs...)
 		huge(t, "Sum, row "+string(rune('0'+i)), got, e)
 	}
 	got, e := nat.Sum(less, list{1}, list{1})
 	fits(t, "Sum(x - 2, 1, 1)", got, e, x)
-	got, e = nat.Sum(with(x, 0), of(5000, 0))
+	got, e = nat.Sum(sample.With(x, 0), sample.Of(5000, 0))
 	fits(t, "Sum(x, 0)", got, e, x)
 }
 
@@ -268,13 +213,13 @@ func TestSub(t *testing.T) {
 		got, e := nat.Sub(c.x, c.y)
 		is(t, "Sub", got, e, c.want, c.e)
 	}
-	for _, x := range samples() {
-		for _, y := range samples() {
+	for _, x := range sample.Lists() {
+		for _, y := range sample.Lists() {
 			got, e := nat.Sub(x, y)
-			want := new(big.Int).Sub(number(x), number(y))
+			want := new(big.Int).Sub(sample.Number(x), sample.Number(y))
 			if want.Sign() < 0 {
 				is(t, "Sub below zero", got, e, nil, api.ErrBelow)
-			} else if e != api.OK || !holds(got, want) {
+			} else if e != api.OK || !sample.Is(got, want) {
 				t.Errorf("Sub(%x, %x) = %x, %d", x, y, got, e)
 			}
 		}
@@ -283,21 +228,21 @@ func TestSub(t *testing.T) {
 
 // P2.4: it is the answer that must not be too long, and below zero comes first.
 func TestSubHuge(t *testing.T) {
-	x := of(4096, m)
-	over := with(of(4096, 0), 1)
-	got, e := nat.Sub(with(x, 1), list{1})
+	x := sample.Of(4096, m)
+	over := sample.With(sample.Of(4096, 0), 1)
+	got, e := nat.Sub(sample.With(x, 1), list{1})
 	huge(t, "Sub(x and a word 1, 1)", got, e)
 	got, e = nat.Sub(over, nil)
 	huge(t, "Sub(2^262144, 0)", got, e)
 	got, e = nat.Sub(over, list{1})
 	fits(t, "Sub(2^262144, 1)", got, e, x)
-	got, e = nat.Sub(with(x, 1), over)
+	got, e = nat.Sub(sample.With(x, 1), over)
 	fits(t, "Sub of two long ones", got, e, x)
-	got, e = nat.Sub(with(over, 7), with(over, 7))
+	got, e = nat.Sub(sample.With(over, 7), sample.With(over, 7))
 	fits(t, "Sub of a long one and itself", got, e, nil)
-	got, e = nat.Sub(over, with(x, 1))
+	got, e = nat.Sub(over, sample.With(x, 1))
 	is(t, "Sub of a long one and a longer", got, e, nil, api.ErrBelow)
-	got, e = nat.Sub(with(over, 1), with(over, 2))
+	got, e = nat.Sub(sample.With(over, 1), sample.With(over, 2))
 	is(t, "Sub of two very long ones", got, e, nil, api.ErrBelow)
 }
 
@@ -309,15 +254,15 @@ func TestMul(t *testing.T) {
 		{nil, list{m}, nil},
 		{list{m, m}, list{0, 0}, nil},
 		{list{7, 0}, list{6, 0, 0}, list{42}},
-		{of(3, m), of(3, m), list{1, 0, 0, m - 1, m, m}},
+		{sample.Of(3, m), sample.Of(3, m), list{1, 0, 0, m - 1, m, m}},
 	} {
 		got, e := nat.Mul(c.x, c.y)
 		is(t, "Mul", got, e, c.want, api.OK)
 	}
-	for _, x := range samples() {
-		for _, y := range samples() {
+	for _, x := range sample.Lists() {
+		for _, y := range sample.Lists() {
 			got, e := nat.Mul(x, y)
-			if e != api.OK || !holds(got, new(big.Int).Mul(number(x), number(y))) {
+			if e != api.OK || !sample.Is(got, new(big.Int).Mul(sample.Number(x), sample.Number(y))) {
 				t.Errorf("Mul(%x, %x) = %x, %d", x, y, got, e)
 			}
 		}
@@ -326,8 +271,8 @@ func TestMul(t *testing.T) {
 
 // P2.5
 func TestMulHuge(t *testing.T) {
-	x := of(4096, m)
-	over := with(of(4096, 0), 1)
+	x := sample.Of(4096, m)
+	over := sample.With(sample.Of(4096, 0), 1)
 	got, e := nat.Mul(x, list{1})
 	fits(t, "Mul(x, 1)", got, e, x)
 	got, e = nat.Mul(x, list{2})
@@ -341,30 +286,30 @@ func TestMulHuge(t *testing.T) {
 	got, e = nat.Mul(nil, over)
 	fits(t, "Mul(0, 2^262144)", got, e, nil)
 	// Two lists that are far too long must not be worked out.
-	got, e = nat.Mul(of(1<<20, m), of(1<<20, m))
+	got, e = nat.Mul(sample.Of(1<<20, m), sample.Of(1<<20, m))
 	huge(t, "Mul of two very long ones", got, e)
 }
 
 // P2.5: products of 4096 and 4097 words whose factors have as many bits.
 func TestMulAtLimit(t *testing.T) {
-	low := with(of(2047, 0), 1) // 2^131008
-	high := with(of(2048, 0), 1<<62)
+	low := sample.With(sample.Of(2047, 0), 1) // 2^131008
+	high := sample.With(sample.Of(2048, 0), 1<<62)
 	got, e := nat.Mul(low, high)
-	fits(t, "Mul(2^131008, 2^131134)", got, e, with(of(4095, 0), 1<<62))
-	got, e = nat.Mul(with(of(2047, m), 1), with(of(2047, m), m>>1))
-	if want := new(big.Int).Mul(number(with(of(2047, m), 1)), number(with(of(2047, m), m>>1))); e != api.OK || !holds(got, want) {
+	fits(t, "Mul(2^131008, 2^131134)", got, e, sample.With(sample.Of(4095, 0), 1<<62))
+	got, e = nat.Mul(sample.With(sample.Of(2047, m), 1), sample.With(sample.Of(2047, m), m>>1))
+	if want := new(big.Int).Mul(sample.Number(sample.With(sample.Of(2047, m), 1)), sample.Number(sample.With(sample.Of(2047, m), m>>1))); e != api.OK || !sample.Is(got, want) {
 		t.Errorf("a product of 4096 words: %d words, %d", len(got), e)
 	}
-	half := with(of(2048, 0), 1)  // 2^131072
-	below := with(of(2048, m), 0) // 2^131072 - 1
+	half := sample.With(sample.Of(2048, 0), 1)  // 2^131072
+	below := sample.With(sample.Of(2048, m), 0) // 2^131072 - 1
 	got, e = nat.Mul(half, half)
 	huge(t, "Mul(2^131072, 2^131072)", got, e)
 	got, e = nat.Mul(below, half)
-	fits(t, "Mul(2^131072 - 1, 2^131072)", got, e, with(of(2048, 0), of(2048, m)...))
-	got, e = nat.Mul(with(list{1}, half[1:]...), below)
-	fits(t, "Mul(2^131072 + 1, 2^131072 - 1)", got, e, of(4096, m))
+	fits(t, "Mul(2^131072 - 1, 2^131072)", got, e, sample.With(sample.Of(2048, 0), sample.Of(2048, m)...))
+	got, e = nat.Mul(sample.With(list{1}, half[1:]...), below)
+	fits(t, "Mul(2^131072 + 1, 2^131072 - 1)", got, e, sample.Of(4096, m))
 	// As many bits as the two before, but a bit more in the product.
-	got, e = nat.Mul(with(of(2048, m), 1), below)
+	got, e = nat.Mul(sample.With(sample.Of(2048, m), 1), below)
 	huge(t, "Mul(2^131073 - 1, 2^131072 - 1)", got, e)
 }
 
@@ -391,10 +336,10 @@ func TestShl(t *testing.T) {
 		got, e := nat.Shl(c.x, c.n)
 		is(t, "Shl", got, e, c.want, c.e)
 	}
-	for _, x := range samples() {
+	for _, x := range sample.Lists() {
 		for _, n := range shifts() {
 			got, e := nat.Shl(x, n)
-			if e != api.OK || !holds(got, new(big.Int).Lsh(number(x), uint(n))) {
+			if e != api.OK || !sample.Is(got, new(big.Int).Lsh(sample.Number(x), uint(n))) {
 				t.Errorf("Shl(%x, %d) = %x, %d", x, n, got, e)
 			}
 		}
@@ -404,21 +349,21 @@ func TestShl(t *testing.T) {
 // P2.6
 func TestShlHuge(t *testing.T) {
 	got, e := nat.Shl(list{1}, 262143)
-	fits(t, "Shl(1, 262143)", got, e, with(of(4095, 0), top))
+	fits(t, "Shl(1, 262143)", got, e, sample.With(sample.Of(4095, 0), top))
 	got, e = nat.Shl(list{3}, 262142)
-	fits(t, "Shl(3, 262142)", got, e, with(of(4095, 0), top|top>>1))
+	fits(t, "Shl(3, 262142)", got, e, sample.With(sample.Of(4095, 0), top|top>>1))
 	got, e = nat.Shl(list{3, 0, 0}, 262143)
 	huge(t, "Shl(3, 262143)", got, e)
-	x := of(4096, m)
-	got, e = nat.Shl(with(x, 0), 0)
+	x := sample.Of(4096, m)
+	got, e = nat.Shl(sample.With(x, 0), 0)
 	fits(t, "Shl(x, 0)", got, e, x)
 	got, e = nat.Shl(x, 1)
 	huge(t, "Shl(x, 1)", got, e)
-	got, e = nat.Shl(with(x, 1), 0)
+	got, e = nat.Shl(sample.With(x, 1), 0)
 	huge(t, "Shl(4097 words, 0)", got, e)
-	got, e = nat.Shl(with(x, 1), math.MaxInt)
+	got, e = nat.Shl(sample.With(x, 1), math.MaxInt)
 	huge(t, "Shl(4097 words, the greatest int)", got, e)
-	got, e = nat.Shl(with(x, 1), -1)
+	got, e = nat.Shl(sample.With(x, 1), -1)
 	is(t, "Shl(4097 words, -1)", got, e, nil, api.ErrShift)
 }
 
@@ -450,12 +395,12 @@ func TestShr(t *testing.T) {
 			t.Errorf("Shr(%x, %d): lost %v", c.x, c.n, lost)
 		}
 	}
-	for _, x := range samples() {
+	for _, x := range sample.Lists() {
 		for _, n := range shifts() {
 			got, lost, e := nat.Shr(x, n)
-			want := new(big.Int).Rsh(number(x), uint(n))
-			cut := new(big.Int).Lsh(want, uint(n)).Cmp(number(x)) != 0
-			if e != api.OK || lost != cut || !holds(got, want) {
+			want := new(big.Int).Rsh(sample.Number(x), uint(n))
+			cut := new(big.Int).Lsh(want, uint(n)).Cmp(sample.Number(x)) != 0
+			if e != api.OK || lost != cut || !sample.Is(got, want) {
 				t.Errorf("Shr(%x, %d) = %x, %v, %d", x, n, got, lost, e)
 			}
 		}
@@ -464,7 +409,7 @@ func TestShr(t *testing.T) {
 
 // P2.7
 func TestShrHuge(t *testing.T) {
-	x := with(of(5000, m), 1, 0)
+	x := sample.With(sample.Of(5000, m), 1, 0)
 	for _, n := range []int{0, 1, 320000 - 262144} {
 		got, lost, e := nat.Shr(x, n)
 		huge(t, "Shr of 5001 words", got, e)
@@ -473,13 +418,13 @@ func TestShrHuge(t *testing.T) {
 		}
 	}
 	got, lost, e := nat.Shr(x, 320001-262144)
-	want := of(4096, m)
+	want := sample.Of(4096, m)
 	fits(t, "Shr to 4096 words", got, e, want)
 	if !lost {
 		t.Errorf("Shr to 4096 words: nothing lost")
 	}
-	got, lost, e = nat.Shr(with(of(4096, 0), 1), 1)
-	fits(t, "Shr(2^262144, 1)", got, e, with(of(4095, 0), top))
+	got, lost, e = nat.Shr(sample.With(sample.Of(4096, 0), 1), 1)
+	fits(t, "Shr(2^262144, 1)", got, e, sample.With(sample.Of(4095, 0), top))
 	if lost {
 		t.Errorf("Shr(2^262144, 1): lost")
 	}
@@ -504,15 +449,15 @@ func TestBits(t *testing.T) {
 		{list{0, 1, 0}, 65, 64},
 		{list{0, 8}, 68, 67},
 		{list{top}, 64, 63},
-		{with(of(4096, 0), 1), 262145, 262144},
-		{with(of(5000, m), 0), 320000, 0},
+		{sample.With(sample.Of(4096, 0), 1), 262145, 262144},
+		{sample.With(sample.Of(5000, m), 0), 320000, 0},
 	} {
 		if bits, zeros := nat.Bits(c.x), nat.Zeros(c.x); bits != c.bits || zeros != c.zeros {
 			t.Errorf("%d words: %d bits, %d zeros, want %d, %d", len(c.x), bits, zeros, c.bits, c.zeros)
 		}
 	}
-	for _, x := range samples() {
-		n := number(x)
+	for _, x := range sample.Lists() {
+		n := sample.Number(x)
 		if bits, zeros := nat.Bits(x), nat.Zeros(x); bits != n.BitLen() || zeros != int(n.TrailingZeroBits()) {
 			t.Errorf("%x: %d bits, %d zeros", x, bits, zeros)
 		}
@@ -521,8 +466,8 @@ func TestBits(t *testing.T) {
 
 // P2.8
 func TestBit(t *testing.T) {
-	for _, x := range samples() {
-		n := number(x)
+	for _, x := range sample.Lists() {
+		n := sample.Number(x)
 		for i := range 64*len(x) + 130 {
 			if got := nat.Bit(x, i); got != int(n.Bit(i)) {
 				t.Errorf("Bit(%x, %d) = %d", x, i, got)
@@ -534,7 +479,7 @@ func TestBit(t *testing.T) {
 			}
 		}
 	}
-	if long := with(of(4097, 0), 2); nat.Bit(long, 4097*64+1) != 1 || nat.Bit(long, 4097*64) != 0 {
+	if long := sample.With(sample.Of(4097, 0), 2); nat.Bit(long, 4097*64+1) != 1 || nat.Bit(long, 4097*64) != 0 {
 		t.Errorf("bits of a long list")
 	}
 }
