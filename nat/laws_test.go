@@ -9,21 +9,10 @@ import (
 	"plumb/sample"
 )
 
-// ok gives the answer of a call that must not fail.
-func ok(t *testing.T) func(x list, e api.Errno) list {
-	return func(x list, e api.Errno) list {
-		t.Helper()
-		if e != api.OK {
-			t.Errorf("error %d", e)
-		}
-		return x
-	}
-}
-
 // P2.10: sums and products in any order, and put together as one likes.
 func TestAnyOrder(t *testing.T) {
 	all := sample.Lists()
-	must := ok(t)
+	must := sample.Must(t)
 	for i, x := range all {
 		for j, y := range all {
 			z := all[(i*7+j*3)%len(all)]
@@ -47,7 +36,7 @@ func TestAnyOrder(t *testing.T) {
 
 // P2.10: Shr takes back Shl, and Shl is a product by a power of two.
 func TestShiftsTakeBack(t *testing.T) {
-	must := ok(t)
+	must := sample.Must(t)
 	for _, x := range sample.Lists() {
 		for _, n := range shifts() {
 			up := must(nat.Shl(x, n))

@@ -66,17 +66,6 @@ func TestMemory(t *testing.T) {
 	}
 }
 
-// ok gives a call's answer, which must not be refused.
-func ok(t *testing.T) func(x list, e api.Errno) list {
-	return func(x list, e api.Errno) list {
-		t.Helper()
-		if e != api.OK {
-			t.Fatalf("refused: %d", e)
-		}
-		return x
-	}
-}
-
 // rest gives the rest of x by y.
 func rest(x, y list) list {
 	_, r, _ := quot.DivMod(x, y)
@@ -86,7 +75,7 @@ func rest(x, y list) list {
 // P3.8: Gcd divides both, either way round, and goes on by rests; Lowest's answers have no common divisor, and crosswise
 // products are the same.
 func TestGcdLaws(t *testing.T) {
-	must := ok(t)
+	must := sample.Must(t)
 	for _, x := range sample.Lists() {
 		for _, y := range sample.Lists() {
 			g := quot.Gcd(x, y)
@@ -115,7 +104,7 @@ func TestGcdLaws(t *testing.T) {
 
 // P3.8: a common divisor of both divides Gcd.
 func TestGcdIsDividedByAll(t *testing.T) {
-	must := ok(t)
+	must := sample.Must(t)
 	for _, d := range sample.Lists() {
 		if nat.Bits(d) == 0 {
 			continue
@@ -131,7 +120,7 @@ func TestGcdIsDividedByAll(t *testing.T) {
 
 // P3.8
 func TestRootLaws(t *testing.T) {
-	must := ok(t)
+	must := sample.Must(t)
 	for _, x := range sample.Lists() {
 		s, just := quot.Root(x)
 		next := must(nat.Add(s, nat.From(1)))
@@ -144,7 +133,7 @@ func TestRootLaws(t *testing.T) {
 
 // P3.8
 func TestPowLaws(t *testing.T) {
-	must := ok(t)
+	must := sample.Must(t)
 	for _, x := range sample.Lists() {
 		for a := range 6 {
 			for b := range 6 {

@@ -7,7 +7,26 @@ import (
 	"math/big"
 	"slices"
 	"strconv"
+
+	"plumb/api"
 )
+
+// Test is what is asked of a test here.
+type Test interface {
+	Helper()
+	Fatalf(format string, args ...any)
+}
+
+// Must gives a call's answer, which must not be refused.
+func Must(t Test) func(x []uint64, e api.Errno) []uint64 {
+	return func(x []uint64, e api.Errno) []uint64 {
+		t.Helper()
+		if e != api.OK {
+			t.Fatalf("refused: %d", e)
+		}
+		return x
+	}
+}
 
 // Of gives so many words, each w.
 func Of(n int, w uint64) []uint64 {

@@ -1,5 +1,5 @@
-// Package words: lists of words as numbers of any length, the lowest word first, without a limit: what nat and quot are
-// both made of. Calls that give a list give new memory; all others change the first list in place.
+// Package words: lists of words as numbers of any length, the lowest word first, without a limit: what nat, quot and
+// radix are made of. Calls that give a list give new memory; all others change the first list in place.
 package words
 
 import "plumb/wide"
@@ -90,6 +90,18 @@ func AddTimes(total []uint64, y []uint64, w uint64) uint64 {
 		hi += carry
 		total[i], carry = wide.Add(lo, on, 0)
 		// Neither carry leaves hi: (2^64 - 1)^2 + 2 * (2^64 - 1) is 2^128 - 1.
+		on = hi + carry
+	}
+	return on
+}
+
+// Times multiplies x by w and adds on, and gives the word that is carried out of x.
+func Times(x []uint64, w uint64, on uint64) uint64 {
+	for i := range x {
+		hi, lo := wide.Mul(x[i], w)
+		var carry uint64
+		x[i], carry = wide.Add(lo, on, 0)
+		// The carry doesn't leave hi: (2^64 - 1)^2 + 2^64 - 1 is below 2^128.
 		on = hi + carry
 	}
 	return on

@@ -87,6 +87,21 @@ func TestAddTimesAndTakeTimes(t *testing.T) {
 	}
 }
 
+// A product with a word, and a word added, in place, with the word that goes out.
+func TestTimes(t *testing.T) {
+	for _, x := range sample.Lists() {
+		for _, w := range factors() {
+			for _, on := range factors() {
+				total := slices.Clone(x)
+				carry := words.Times(total, w, on)
+				if whole(total, carry).Cmp(new(big.Int).Add(sample.Number(list{on}), times(x, w))) != 0 {
+					t.Errorf("Times(%x, %x, %x) = %x, %x", x, w, on, total, carry)
+				}
+			}
+		}
+	}
+}
+
 // Trim gives the same memory, Up and Down new one.
 func TestMemory(t *testing.T) {
 	calls := func(in []list) []list {
