@@ -1,5 +1,5 @@
 // Package words: lists of words as numbers of any length, the lowest word first, without a limit: what nat, quot,
-// radix and near are made of. Calls that give a list give new memory; all others change the first list in place.
+// radix, near and lex are made of. Calls that give a list give new memory; all others change the first list in place.
 package words
 
 import "plumb/wide"
