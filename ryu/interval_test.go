@@ -60,7 +60,7 @@ func TestIntervalExamples(t *testing.T) {
 // P12.2 and P12.3: the middles to the neighbours, whatever the pattern; the ends are taken just if its lowest bit is 0;
 // and below a power of two the interval reaches half as far, but of the least normal number and of the zeros.
 func TestIntervalIsTheMiddles(t *testing.T) {
-	for _, b := range patterns() {
+	for _, b := range sample.Patterns() {
 		low, high, in, bad := ryu.Interval(b)
 		wantLow, wantHigh := ends(b)
 		if bad != api.OK || in != (b%2 == 0) || number(low).Cmp(wantLow) != 0 || number(high).Cmp(wantHigh) != 0 {
@@ -80,7 +80,7 @@ func TestIntervalIsTheMiddles(t *testing.T) {
 
 // P12.2: Rats that are answered are Rats: in lowest terms, normal, and without a minus but of the zeros.
 func TestIntervalIsInLowestTerms(t *testing.T) {
-	for _, b := range patterns() {
+	for _, b := range sample.Patterns() {
 		low, high, _, _ := ryu.Interval(b)
 		for _, r := range []api.Rat{low, high} {
 			q := number(r)

@@ -38,34 +38,6 @@ func ten(n int) *big.Rat {
 	return out
 }
 
-// patterns gives all that a pattern's interval hangs on: every power of two with its neighbours, the small subnormals,
-// decimals of few digits, such as lie next to ties, and others by a fixed rule; some with a minus.
-func patterns() []uint64 {
-	var out []uint64
-	for e := range uint64(2047) {
-		out = append(out, e<<52, e<<52+1, e<<52+2, (e+1)<<52-1, (e+1)<<52-2)
-	}
-	for b := range uint64(200) {
-		out = append(out, b, 0x4310000000000000+b, 0x4340000000000000-b, 0x4340000000000000+b)
-	}
-	for e := -323; e <= 308; e++ {
-		for _, d := range []string{"1", "3", "9", "25", "123456789"} {
-			f, err := strconv.ParseFloat(d+"e"+strconv.Itoa(e-len(d)+1), 64)
-			if err == nil {
-				b := math.Float64bits(f)
-				out = append(out, max(b, 1)-1, b|minus, b+1)
-			}
-		}
-	}
-	rule := sample.Rule(0x9e3779b97f4a7c15)
-	for range 4000 {
-		if b := rule.Next(); b>>52&2047 != 2047 {
-			out = append(out, b, b>>rule.Below(64))
-		}
-	}
-	return out
-}
-
 // parts gives how many times a number holds the part of 1 in which every pattern, the middles and the decimals up to 17
 // digits are whole.
 func parts(q *big.Rat) *big.Int {
@@ -131,7 +103,7 @@ func around(size *big.Int, unit *big.Int, n int) []*big.Int {
 // P12.1: the definition, of every kind of pattern.
 func TestShortestIsTheDefinition(t *testing.T) {
 	units := units()
-	for _, b := range patterns() {
+	for _, b := range sample.Patterns() {
 		want, exp := uint64(0), 0
 		if b&^minus != 0 {
 			want, exp = shortest(b, units)
@@ -144,7 +116,7 @@ func TestShortestIsTheDefinition(t *testing.T) {
 
 // P12.1 and P12.3: no 0 at the end, at most 17 digits, between the ends, and read back as the pattern's size.
 func TestShortestIsReadBack(t *testing.T) {
-	for _, b := range patterns() {
+	for _, b := range sample.Patterns() {
 		size := b &^ minus
 		if size == 0 {
 			continue
@@ -166,7 +138,7 @@ func TestShortestIsReadBack(t *testing.T) {
 
 // P12.3: numbers in an interval are taken to the pattern, just outside they are not; and at its ends as is told.
 func TestIntervalIsTaken(t *testing.T) {
-	for _, b := range patterns() {
+	for _, b := range sample.Patterns() {
 		size := b &^ minus
 		low, high, in, _ := ryu.Interval(b)
 		for _, end := range []api.Rat{low, high} {
@@ -196,7 +168,7 @@ func TestIntervalIsTaken(t *testing.T) {
 
 // P12.3: rounded to 17 digits each number is taken back, so none needs more; neighbours have unlike answers.
 func TestSeventeenDigits(t *testing.T) {
-	for _, b := range patterns() {
+	for _, b := range sample.Patterns() {
 		size := b &^ minus
 		text := strconv.FormatFloat(math.Float64frombits(size), 'e', 16, 64)
 		if f, err := strconv.ParseFloat(text, 64); err != nil || math.Float64bits(f) != size {
@@ -214,7 +186,7 @@ func TestSeventeenDigits(t *testing.T) {
 
 // P12.4: the same answers again, in another order, and from many callers at once.
 func TestNothingIsKept(t *testing.T) {
-	list := patterns()[:3000]
+	list := sample.Patterns()[:3000]
 	type answer struct {
 		d   uint64
 		e   int

@@ -1,4 +1,4 @@
-// Package sample: what the tests of several layers share: lists of words that are telling, their exact numbers by
+// Package sample: what the tests of several layers share: lists of words and patterns that are telling, exact numbers by
 // another road, and whether calls keep their hands off other memory. The program itself does not use it.
 package sample
 
@@ -92,6 +92,36 @@ func (r *Rule) List(n int) []uint64 {
 			out[i] = math.MaxUint64
 		case 2:
 			out[i] >>= r.Below(64)
+		}
+	}
+	return out
+}
+
+// Patterns are finite patterns at which digits, intervals or steps would show a fault: every power of two with its
+// neighbours, the small subnormals, decimals of few digits with their neighbours, such as lie next to ties, and others by
+// a fixed rule; some with a minus.
+func Patterns() []uint64 {
+	const minus = 1 << 63
+	var out []uint64
+	for e := range uint64(2047) {
+		out = append(out, e<<52, e<<52+1, e<<52+2, (e+1)<<52-1, (e+1)<<52-2)
+	}
+	for b := range uint64(200) {
+		out = append(out, b, 0x4310000000000000+b, 0x4340000000000000-b, 0x4340000000000000+b)
+	}
+	for e := -323; e <= 308; e++ {
+		for _, d := range []string{"1", "3", "9", "25", "123456789"} {
+			f, err := strconv.ParseFloat(d+"e"+strconv.Itoa(e-len(d)+1), 64)
+			if err == nil {
+				b := math.Float64bits(f)
+				out = append(out, max(b, 1)-1, b|minus, b+1)
+			}
+		}
+	}
+	rule := Rule(0x9e3779b97f4a7c15)
+	for range 4000 {
+		if b := rule.Next(); b>>52&2047 != 2047 {
+			out = append(out, b, b>>rule.Below(64))
 		}
 	}
 	return out
