@@ -223,6 +223,7 @@ func TestErrIsTheSameAgain(t *testing.T) {
 	r.Byte()
 	r.Word64(true)
 	first := r.Err()
+	r.Word64(true)
 	r.Word32(true)
 	r.Byte()
 	if again := r.Err(); again != first {
