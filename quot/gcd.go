@@ -27,6 +27,10 @@ func Gcd(x []uint64, y []uint64) []uint64 {
 // Lowest gives two numbers divided by their greatest common divisor.
 func Lowest(x []uint64, y []uint64) ([]uint64, []uint64) {
 	g := Gcd(x, y)
+	if twos := nat.Zeros(g); twos == nat.Bits(g)-1 {
+		// A power of two, as nearly always in the layers above, is divided by in one go.
+		return words.Down(x, twos), words.Down(y, twos)
+	}
 	// Both quotients are whole; of zero and zero, which can't be divided, they are empty, as they should be.
 	a, _, _ := DivMod(x, g)
 	b, _, _ := DivMod(y, g)
@@ -45,8 +49,11 @@ func euclid(a []uint64, b []uint64) []uint64 {
 		a, b = b, rest
 	}
 	d, _ := nat.Word(b)
-	if d == 0 {
+	switch d {
+	case 0:
 		return a
+	case 1:
+		return nat.From(1)
 	}
 	_, rest, _ := Small(a, d)
 	return nat.From(gcdWords(d, rest))
