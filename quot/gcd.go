@@ -15,8 +15,11 @@ func Gcd(x []uint64, y []uint64) []uint64 {
 	if len(y) == 0 {
 		return nat.Norm(x)
 	}
-	// Powers of two are told by the low ends: without them most denominators of the layers above are 1.
+	// Powers of two are told by the low ends; most denominators of the layers above are such, and need no more than that.
 	twosX, twosY := nat.Zeros(x), nat.Zeros(y)
+	if twosX == nat.Bits(x)-1 || twosY == nat.Bits(y)-1 {
+		return words.Up([]uint64{1}, min(twosX, twosY))
+	}
 	a, b := words.Down(x, twosX), words.Down(y, twosY)
 	if nat.Cmp(a, b) < 0 {
 		a, b = b, a
