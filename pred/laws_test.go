@@ -36,10 +36,10 @@ func TestAsTheFormulasSay(t *testing.T) {
 	var turns, circles, nearer [3]int
 	onStretch := 0
 	for range 6000 {
-		l := someRow(&rule, 4)
+		l := rule.Row(4)
 		a, b, c, d := l[0], l[1], l[2], l[3]
 		area := plainArea2(a, b, c)
-		if got, e := pred.Area2(a, b, c); e != api.OK || !isRat(got, area) {
+		if got, e := pred.Area2(a, b, c); e != api.OK || !sample.IsRat(got, area) {
 			t.Fatalf("P22.1: Area2(%x) = %v, %d, want %v", l[:3], got, e, area)
 		}
 		turn := orient(t, a, b, c)
@@ -77,7 +77,7 @@ func TestAsTheFormulasSay(t *testing.T) {
 func TestChangedAbout(t *testing.T) {
 	rule := sample.Rule(227)
 	for range 3000 {
-		l := someRow(&rule, 4)
+		l := rule.Row(4)
 		a, b, c, d := l[0], l[1], l[2], l[3]
 		n, m := orient(t, a, b, c), inCircle(t, a, b, c, d)
 		if orient(t, b, c, a) != n || orient(t, c, a, b) != n || orient(t, b, a, c) != -n || orient(t, a, c, b) != -n || orient(t, c, b, a) != -n {
@@ -95,18 +95,9 @@ func TestChangedAbout(t *testing.T) {
 // P22.7: a place hangs on numbers alone: 0 and -0 are one.
 func TestZerosAreOne(t *testing.T) {
 	rule := sample.Rule(2270)
-	turned := func(b uint64) uint64 {
-		if b<<1 == 0 && rule.Below(2) == 0 {
-			return b ^ minus
-		}
-		return b
-	}
 	for range 2000 {
-		l := someRow(&rule, 4)
-		m := make([]api.Point, 4)
-		for i, p := range l {
-			m[i] = api.Point{X: turned(p.X), Y: turned(p.Y)}
-		}
+		l := rule.Row(4)
+		m := rule.OtherZeros(l)
 		is, _ := pred.Between(l[0], l[1], l[2])
 		other, _ := pred.Between(m[0], m[1], m[2])
 		near, _ := pred.Nearer(l[0], l[1], l[2], l[3])
@@ -124,7 +115,7 @@ func TestHullAsItsWordsSay(t *testing.T) {
 	rule := sample.Rule(226)
 	var sizes [9]int
 	for range 2500 {
-		l := someRow(&rule, rule.Below(9))
+		l := rule.Row(rule.Below(9))
 		got, e := pred.Hull(l)
 		if want := plainHull(l); e != api.OK || !slices.Equal(got, want) {
 			t.Fatalf("P22.6: Hull(%x) = %x, %d, want %x", l, got, e, want)
@@ -140,7 +131,7 @@ func TestHullAsItsWordsSay(t *testing.T) {
 func TestHullHoldsAll(t *testing.T) {
 	rule := sample.Rule(2262)
 	for range 60 {
-		l := someRow(&rule, 30+rule.Below(60))
+		l := rule.Row(30 + rule.Below(60))
 		h, e := pred.Hull(l)
 		if e != api.OK {
 			t.Fatalf("P22.6: Hull(%x): %d", l, e)
@@ -173,7 +164,7 @@ func TestHullHoldsAll(t *testing.T) {
 func TestHullOfAnyOrder(t *testing.T) {
 	rule := sample.Rule(2263)
 	for range 200 {
-		l := someRow(&rule, 3+rule.Below(10))
+		l := rule.Row(3 + rule.Below(10))
 		h, _ := pred.Hull(l)
 		for i := range l {
 			j := rule.Below(len(l))
@@ -190,7 +181,7 @@ func TestHullOfAnyOrder(t *testing.T) {
 func TestMemory(t *testing.T) {
 	rule := sample.Rule(228)
 	for range 300 {
-		l := sample.RoomyPoints(someRow(&rule, rule.Below(9)))
+		l := sample.RoomyPoints(rule.Row(rule.Below(9)))
 		whole := slices.Clone(l[:cap(l)])
 		h, _ := pred.Hull(l)
 		want := slices.Clone(h)
@@ -204,7 +195,7 @@ func TestMemory(t *testing.T) {
 		if again, _ := pred.Hull(l); !slices.Equal(again, want) {
 			t.Fatalf("P22.8: Hull(%x) = %x, before %x", l, again, want)
 		}
-		s := someRow(&rule, 3)
+		s := rule.Row(3)
 		calls := func([][]uint64) [][]uint64 {
 			r, _ := pred.Area2(s[0], s[1], s[2])
 			q, _ := pred.Area2(s[0], s[1], s[2])
@@ -219,7 +210,7 @@ func TestMemory(t *testing.T) {
 // P0.1: many at once answer as one does.
 func TestManyAtOnce(t *testing.T) {
 	rule := sample.Rule(220)
-	l := someRow(&rule, 60)
+	l := rule.Row(60)
 	want, _ := pred.Hull(l)
 	var group sync.WaitGroup
 	for range 8 {

@@ -9,6 +9,7 @@ import (
 	"plumb/api"
 	"plumb/pred"
 	"plumb/rat"
+	"plumb/sample"
 )
 
 const (
@@ -70,7 +71,7 @@ func TestArea2(t *testing.T) {
 		{at(0, 0), at(great, 0), at(0, least), new(big.Rat).SetFrac(big.NewInt(1), new(big.Int).Lsh(big.NewInt(1), 51))},
 	} {
 		got, e := pred.Area2(c.a, c.b, c.c)
-		if e != api.OK || !isRat(got, c.want) || rat.Check(got) != api.OK {
+		if e != api.OK || !sample.IsRat(got, c.want) || rat.Check(got) != api.OK {
 			t.Errorf("P22.1: Area2(%x, %x, %x) = %v, %d, want %v", c.a, c.b, c.c, got, e, c.want)
 		}
 	}
@@ -289,7 +290,7 @@ func refusedOfThree(a, b, c api.Point) []string {
 
 // ErrSpot: of each call, in each of its patterns, whatever the other ones are.
 func TestNotFinite(t *testing.T) {
-	for _, bad := range unfinished {
+	for _, bad := range sample.Unfinished() {
 		for _, good := range []api.Point{{}, at(1, 2), at(great, least)} {
 			for i := range 8 {
 				l := []api.Point{good, good, at(3, 4), at(-1, 0)}
