@@ -13,6 +13,15 @@ func Spot(x float64, y float64) api.Point {
 	return api.Point{X: math.Float64bits(x), Y: math.Float64bits(y)}
 }
 
+// Spots gives points by their numbers, X and Y by turns.
+func Spots(l ...float64) []api.Point {
+	var out []api.Point
+	for i := 1; i < len(l); i += 2 {
+		out = append(out, Spot(l[i-1], l[i]))
+	}
+	return out
+}
+
 // Unfinished are patterns that are not finite.
 func Unfinished() []uint64 {
 	return []uint64{0x7ff0000000000000, 0xfff0000000000000, 0x7ff8000000000000, 0xfff8000000000000, 0x7ff0000000000001, 0x7fffffffffffffff, math.MaxUint64}
@@ -54,6 +63,27 @@ func (r *Rule) Row(n int) []api.Point {
 			p = r.akin(out[r.Below(i)], out[r.Below(i)])
 		}
 		out = append(out, p)
+	}
+	return out
+}
+
+// Crowd gives so many points of the row: of a small grid, many of which are on one line, or of all sorts.
+func (r *Rule) Crowd(n int) []api.Point {
+	if r.Below(3) == 0 {
+		return r.Row(n)
+	}
+	units := []float64{1, 0.75, 0x1p-1074, 0x1.8p1018, -0x1p-600}
+	size, slope := 2+r.Below(4), r.Below(3)
+	x, y := units[r.Below(len(units))], units[r.Below(len(units))]
+	level := r.Below(3) == 0
+	var out []api.Point
+	for range n {
+		i, j := r.Below(size), r.Below(size)
+		if level {
+			j = i
+		}
+		// No number is rounded here.
+		out = append(out, Spot(float64(i+slope*j-1)*x, float64(j-1)*y))
 	}
 	return out
 }
@@ -113,6 +143,14 @@ func Ratio(r api.Rat) *big.Rat {
 		out.Neg(out)
 	}
 	return out
+}
+
+// TwoTo is two to the n as a Rat's text.
+func TwoTo(n int) string {
+	if n < 0 {
+		return "1/" + TwoTo(-n)
+	}
+	return new(big.Int).Lsh(big.NewInt(1), uint(n)).String()
 }
 
 // Exact is a place, or the way from one to another, by two rationals of the library.

@@ -40,7 +40,7 @@ func TestMeetAsTheWordsSay(t *testing.T) {
 	rule := sample.Rule(231)
 	var sorts [4]int
 	for range 12000 {
-		l := crowd(&rule, 4)
+		l := rule.Crowd(4)
 		got := meet(t, l[0], l[1], l[2], l[3])
 		if want := plainMeet(l[0], l[1], l[2], l[3]).answer(); got != want {
 			t.Fatalf("P23.1: Meet(%x) = %+v, want %+v", l, got, want)
@@ -57,7 +57,7 @@ func TestCrossIsOnBothLines(t *testing.T) {
 	rule := sample.Rule(232)
 	var crossed, parallel int
 	for range 4000 {
-		l := crowd(&rule, 4)
+		l := rule.Crowd(4)
 		a, b := sample.ExactOf(l[0]), sample.ExactOf(l[1])
 		c, d := sample.ExactOf(l[2]), sample.ExactOf(l[3])
 		x, y, e := seg.Cross(l[0], l[1], l[2], l[3])
@@ -91,7 +91,7 @@ func TestFootIsNearest(t *testing.T) {
 	rule := sample.Rule(233)
 	var on, ends, within int
 	for range 4000 {
-		l := crowd(&rule, 3)
+		l := rule.Crowd(3)
 		a, b, p := l[0], l[1], l[2]
 		x, y, e := seg.Foot(a, b, p)
 		if e != api.OK {
@@ -132,7 +132,7 @@ func TestPairsAsTheWordsSay(t *testing.T) {
 	rule := sample.Rule(234)
 	var met, met0 int
 	for range 3000 {
-		l := crowd(&rule, rule.Below(11))
+		l := rule.Crowd(rule.Below(11))
 		if len(l) > 2 && rule.Below(2) == 0 {
 			l = append(l, rule.OtherZeros(l[:1])...)
 		}
@@ -168,7 +168,7 @@ func place(p api.Point) api.Point {
 func TestMeetFromAllSides(t *testing.T) {
 	rule := sample.Rule(235)
 	for range 4000 {
-		l := crowd(&rule, 4)
+		l := rule.Crowd(4)
 		a, b, c, d := l[0], l[1], l[2], l[3]
 		m := meet(t, a, b, c, d)
 		for _, o := range [][]api.Point{{b, a, c, d}, {a, b, d, c}, {b, a, d, c}, {c, d, a, b}, {d, c, a, b}, {d, c, b, a}, rule.OtherZeros(l)} {
@@ -193,7 +193,7 @@ func TestMeetFromAllSides(t *testing.T) {
 func TestCrossFromAllSides(t *testing.T) {
 	rule := sample.Rule(2350)
 	for range 1500 {
-		l := crowd(&rule, 4)
+		l := rule.Crowd(4)
 		a, b, c, d := l[0], l[1], l[2], l[3]
 		x, y, e := seg.Cross(a, b, c, d)
 		for _, o := range [][]api.Point{{b, a, c, d}, {a, b, d, c}, {c, d, a, b}, {d, c, b, a}, rule.OtherZeros(l)} {
@@ -221,7 +221,7 @@ func unlike(a, b, c, d api.Point) bool {
 func TestMeetGoesWithPred(t *testing.T) {
 	rule := sample.Rule(236)
 	for range 6000 {
-		l := crowd(&rule, 4)
+		l := rule.Crowd(4)
 		a, b, c, d := l[0], l[1], l[2], l[3]
 		m := meet(t, a, b, c, d)
 		if m.Proper != (unlike(a, b, c, d) && unlike(c, d, a, b)) {
@@ -250,7 +250,7 @@ func TestMeetGoesWithPred(t *testing.T) {
 func TestMemory(t *testing.T) {
 	rule := sample.Rule(238)
 	for range 500 {
-		l := sample.RoomyPoints(crowd(&rule, 2+rule.Below(9)))
+		l := sample.RoomyPoints(rule.Crowd(2 + rule.Below(9)))
 		whole := slices.Clone(l[:cap(l)])
 		got, _ := seg.Pairs(l)
 		want := slices.Clone(got)
@@ -264,7 +264,7 @@ func TestMemory(t *testing.T) {
 		if again, _ := seg.Pairs(l); !slices.Equal(again, want) {
 			t.Fatalf("P23.8: Pairs(%x) = %v, before %v", l, again, want)
 		}
-		s := crowd(&rule, 4)
+		s := rule.Crowd(4)
 		if fault := sample.Memory(func([][]uint64) [][]uint64 { return lists(s) }); fault != "" {
 			t.Fatalf("P23.8: of %x: %s", s, fault)
 		}
@@ -291,7 +291,7 @@ func lists(s []api.Point) [][]uint64 {
 // P0.1: many at once answer as one does.
 func TestManyAtOnce(t *testing.T) {
 	rule := sample.Rule(230)
-	l := crowd(&rule, 40)
+	l := rule.Crowd(40)
 	want := plainPairs(l)
 	var group sync.WaitGroup
 	for range 8 {

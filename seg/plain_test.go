@@ -23,32 +23,7 @@ func at(x, y float64) api.Point {
 
 // row gives points by floats, two a point.
 func row(l ...float64) []api.Point {
-	var out []api.Point
-	for i := 1; i < len(l); i += 2 {
-		out = append(out, at(l[i-1], l[i]))
-	}
-	return out
-}
-
-// crowd gives so many points of the row: of a small grid, many of which are on one line, or of all sorts.
-func crowd(rule *sample.Rule, n int) []api.Point {
-	if rule.Below(3) == 0 {
-		return rule.Row(n)
-	}
-	units := []float64{1, 0.75, least, 0x1.8p1018, -0x1p-600}
-	size, slope := 2+rule.Below(4), rule.Below(3)
-	x, y := units[rule.Below(len(units))], units[rule.Below(len(units))]
-	level := rule.Below(3) == 0
-	var out []api.Point
-	for range n {
-		i, j := rule.Below(size), rule.Below(size)
-		if level {
-			j = i
-		}
-		// No number is rounded here.
-		out = append(out, at(float64(i+slope*j-1)*x, float64(j-1)*y))
-	}
-	return out
+	return sample.Spots(l...)
 }
 
 // plainMeeting is a meeting by exact places.

@@ -2,7 +2,6 @@ package seg_test
 
 import (
 	"math"
-	"math/big"
 	"slices"
 	"testing"
 
@@ -124,14 +123,6 @@ func isZero(r api.Rat) bool {
 	return !r.Neg && len(r.Num)+len(r.Den) == 0
 }
 
-// twoTo gives two to the n.
-func twoTo(n int) string {
-	if n < 0 {
-		return "1/" + twoTo(-n)
-	}
-	return new(big.Int).Lsh(big.NewInt(1), uint(n)).String()
-}
-
 // P23.2
 func TestCross(t *testing.T) {
 	for _, c := range []struct {
@@ -147,11 +138,11 @@ func TestCross(t *testing.T) {
 		{row(0.1, 0, 0.1, 1, 0, 0.5, 1, 0.5), "3602879701896397/36028797018963968", "1/2"},
 		{row(1, 1, 2, 2, -5, 7, -5, -7), "-5", "-5"},
 		// Far beyond all patterns, and nearer to 0.
-		{row(0, 0, great, least, 0, 1, great, 1), twoTo(2097), "1"},
-		{row(0, 0, least, great, 1, 0, 1, great), "1", twoTo(2097)},
-		{row(0, 0, great, least, least, 0, least, 1), twoTo(-1074), twoTo(-1074 - 1023 - 1074)},
+		{row(0, 0, great, least, 0, 1, great, 1), sample.TwoTo(2097), "1"},
+		{row(0, 0, least, great, 1, 0, 1, great), "1", sample.TwoTo(2097)},
+		{row(0, 0, great, least, least, 0, least, 1), sample.TwoTo(-1074), sample.TwoTo(-1074 - 1023 - 1074)},
 		// Lines that are nearly one.
-		{row(0, 0, great, great, 0, least, great, great), twoTo(1023), twoTo(1023)},
+		{row(0, 0, great, great, 0, least, great, great), sample.TwoTo(1023), sample.TwoTo(1023)},
 	} {
 		x, y, e := seg.Cross(c.in[0], c.in[1], c.in[2], c.in[3])
 		if e != api.OK || told(x, y) != [2]string{c.x, c.y} {
@@ -202,11 +193,11 @@ func TestFootAndFar(t *testing.T) {
 		{row(0, 0, 2, 0, 2, 5), "2", "0", "25"},
 		{row(0, 0, 2, 0, below2, 5), "9007199254740991/4503599627370496", "0", "25"},
 		{row(0, 0, 2, 0, 0, -5), "0", "0", "25"},
-		{row(0, 0, 2, 0, least, -5), twoTo(-1074), "0", "25"},
-		{row(0, 0, 2, 0, -least, 0), "0", "0", twoTo(-2148)},
-		{row(-great, 0, great, 0, 0, least), "0", "0", twoTo(-2148)},
-		{row(0, 0, 0, 0, great, great), "0", "0", twoTo(2047)},
-		{row(-great, -great, great, great, great, -great), "0", "0", twoTo(2047)},
+		{row(0, 0, 2, 0, least, -5), sample.TwoTo(-1074), "0", "25"},
+		{row(0, 0, 2, 0, -least, 0), "0", "0", sample.TwoTo(-2148)},
+		{row(-great, 0, great, 0, 0, least), "0", "0", sample.TwoTo(-2148)},
+		{row(0, 0, 0, 0, great, great), "0", "0", sample.TwoTo(2047)},
+		{row(-great, -great, great, great, great, -great), "0", "0", sample.TwoTo(2047)},
 	} {
 		x, y, e := seg.Foot(c.in[0], c.in[1], c.in[2])
 		if e != api.OK || told(x, y) != [2]string{c.x, c.y} {
