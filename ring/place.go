@@ -61,8 +61,8 @@ func edges[P any](ring []P) iter.Seq2[P, P] {
 	}
 }
 
-// passes tells how often the edge from a to b crosses the level of p on its right hand, upwards counting 1, downwards -1;
-// or that p is on it.
+// passes tells how the edge from a to b crosses the way from p straight to the right: upwards 1, downwards -1, not at all 0;
+// or that p is on the edge.
 func passes(a place, b place, p place) (n int, on bool) {
 	rise := above(b, p) - above(a, p)
 	switch {
