@@ -85,14 +85,14 @@ func TestWindingAndSideAsTheWordsSay(t *testing.T) {
 		r := loop(&rule, 1+rule.Below(12))
 		p := near(&rule, r)
 		got := ask(t, r, p)
-		if plainOn(r, p) {
+		if sample.ExactOf(p).OnRing(r) {
 			if got.winding != 0 || !got.on || got.side != 0 {
 				t.Fatalf("P24.2, P24.3: Winding(%x, %x) = %d, %t, Side %d, but it is on the ring", r, p, got.winding, got.on, got.side)
 			}
 			on++
 			continue
 		}
-		turns, edges := plainWinding(r, p)
+		turns, edges := sample.ExactOf(p).Winding(r)
 		side := edges%2*2 - 1
 		if got.winding != turns || got.on || got.side != side {
 			t.Fatalf("P24.2, P24.3: Winding(%x, %x) = %d, %t, Side %d, want %d, %d", r, p, got.winding, got.on, got.side, turns, side)
@@ -281,9 +281,9 @@ func TestMostPoints(t *testing.T) {
 		area := plainArea(r)
 		for range 8 {
 			p := near(&rule, r)
-			want := told{area: area, turn: area.Sign(), on: plainOn(r, p)}
+			want := told{area: area, turn: area.Sign(), on: sample.ExactOf(p).OnRing(r)}
 			if !want.on {
-				turns, edges := plainWinding(r, p)
+				turns, edges := sample.ExactOf(p).Winding(r)
 				want.winding, want.side = turns, edges%2*2-1
 			}
 			if got := ask(t, r, p); !got.is(want) {

@@ -80,11 +80,6 @@ func begun(r []api.Point, i int) []api.Point {
 	return slices.Concat(there[i:], there[:i], there[i:i+1])
 }
 
-// same tells whether two places are one.
-func same(a, b sample.Exact) bool {
-	return a.Cmp(b) == 0
-}
-
 // fan gives the triangles from a ring's first place to each of its edges: two ways from there.
 func fan(r []api.Point) [][2]sample.Exact {
 	var out [][2]sample.Exact
@@ -102,49 +97,6 @@ func plainArea(r []api.Point) *big.Rat {
 		sum.Add(sum, t[0].Cross(t[1]))
 	}
 	return sum
-}
-
-// plainOn tells whether p is on the ring.
-func plainOn(r []api.Point, p api.Point) bool {
-	at := sample.ExactOf(p)
-	if same(sample.ExactOf(r[0]), at) {
-		return true
-	}
-	for i := 1; i < len(r); i++ {
-		v, w := sample.ExactOf(r[i-1]).Less(at), sample.ExactOf(r[i]).Less(at)
-		if v.Cross(w).Sign() == 0 && v.Dot(w).Sign() <= 0 {
-			return true
-		}
-	}
-	return false
-}
-
-// slant gives a way from p, which isn't on the ring, that goes through no point of it, neither ahead nor behind.
-func slant(r []api.Point, p sample.Exact) sample.Exact {
-	for n := int64(1); ; n++ {
-		way := sample.Exact{X: big.NewRat(1, 1), Y: big.NewRat(1, n)}
-		hits := func(q api.Point) bool { return way.Cross(sample.ExactOf(q).Less(p)).Sign() == 0 }
-		if !slices.ContainsFunc(r, hits) {
-			return way
-		}
-	}
-}
-
-// plainWinding tells how many edges cross a way from p that goes through no point of the ring, to the left ahead of it
-// counting 1, to the right -1; and how many do at all.
-func plainWinding(r []api.Point, p api.Point) (turns int, edges int) {
-	from := sample.ExactOf(p)
-	way := slant(r, from)
-	for i := 1; i < len(r); i++ {
-		v, w := sample.ExactOf(r[i-1]).Less(from), sample.ExactOf(r[i]).Less(from)
-		to := way.Cross(w).Sign()
-		// It is crossed ahead of p just if p is on the left of an edge that goes to the left.
-		if way.Cross(v).Sign() != to && v.Cross(w).Sign() == to {
-			turns += to
-			edges++
-		}
-	}
-	return turns, edges
 }
 
 // plainBox is P24.4 as its words say.

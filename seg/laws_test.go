@@ -42,7 +42,7 @@ func TestMeetAsTheWordsSay(t *testing.T) {
 	for range 12000 {
 		l := rule.Crowd(4)
 		got := meet(t, l[0], l[1], l[2], l[3])
-		if want := plainMeet(l[0], l[1], l[2], l[3]).answer(); got != want {
+		if want := answered(sample.Meet(l[0], l[1], l[2], l[3])); got != want {
 			t.Fatalf("P23.1: Meet(%x) = %+v, want %+v", l, got, want)
 		}
 		sorts[sort(got)]++
@@ -301,7 +301,7 @@ func TestManyAtOnce(t *testing.T) {
 			}
 			for i := range len(l) - 3 {
 				s := l[i : i+4]
-				if m, e := seg.Meet(s[0], s[1], s[2], s[3]); m != plainMeet(s[0], s[1], s[2], s[3]).answer() || e != api.OK {
+				if m, e := seg.Meet(s[0], s[1], s[2], s[3]); m != answered(sample.Meet(s[0], s[1], s[2], s[3])) || e != api.OK {
 					t.Errorf("P0.1: Meet(%x) = %+v, %d", s, m, e)
 				}
 			}

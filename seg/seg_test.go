@@ -78,7 +78,7 @@ func TestMeet(t *testing.T) {
 		if got != c.want || e != api.OK {
 			t.Errorf("P23.1: Meet(%x) = %+v, %d, want %+v", c.in, got, e, c.want)
 		}
-		if plain := plainMeet(c.in[0], c.in[1], c.in[2], c.in[3]).answer(); plain != c.want {
+		if plain := answered(sample.Meet(c.in[0], c.in[1], c.in[2], c.in[3])); plain != c.want {
 			t.Errorf("P23.1: the plain meeting of %x is %+v, want %+v", c.in, plain, c.want)
 		}
 	}
